@@ -1,0 +1,1 @@
+"""Stepline: functions by steps on a line."""
