@@ -1,8 +1,9 @@
 """What values, places, rows and lines are, asked of things of any kind."""
 
-from stepline.errors import NoLine, NoPlace, NoValue, Unlike
+from stepline.errors import NoLine, NoNumber, NoPlace, NoValue, Unlike
 
 GREATEST_VALUE = 999
+GREATEST_SPREAD = 1998
 MOST_PLACES = 60
 MOST_ROWS = 60
 
@@ -82,6 +83,12 @@ def need_value(thing):
     """Refuse what is no value."""
     if not is_value(thing):
         raise NoValue("a value is a whole number from -999 to 999")
+
+
+def need_number(thing, least, greatest):
+    """Refuse what is no whole number from one to another one."""
+    if not is_whole(thing, least, greatest):
+        raise NoNumber(f"this is no whole number from {least} to {greatest}")
 
 
 def need_place(thing, long):

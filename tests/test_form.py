@@ -8,7 +8,7 @@ import unittest
 
 FOLDER = pathlib.Path(__file__).resolve().parent.parent / "stepline"
 FILES = sorted(FOLDER.glob("*.py"))
-NAMED_FILES = ["__init__.py", "errors.py", "joining.py", "lines.py"]
+NAMED_FILES = ["__init__.py", "asking.py", "errors.py", "joining.py", "lines.py", "nearing.py", "turning.py"]
 
 BUILTINS = set("""len range enumerate zip min max sum abs sorted reversed int str bool bytes list tuple dict set
 frozenset isinstance ord repr any all divmod Exception ValueError TypeError KeyError IndexError LookupError

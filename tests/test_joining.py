@@ -1,33 +1,26 @@
 """[1] and [3]: lines put together, and lines cut."""
 
-import inspect
 import unittest
 
 from stepline import joining
 from stepline.errors import NoLine, NoPlace, NoValue, TooGreat, Unlike
 from stepline.joining import behind, cut, greater, lesser, mirrored, plus, put_in, times
-from tests.things import Refusing, line_by_places, long_lists, no_lines, no_places, no_values, short_lists
+from tests.things import OfLines, arguments, line_by_places, long_lists, no_places, no_values, short_lists
 
 LINE = (6, ((0, 4), (2, -3), (5, 0)))
 OTHER = (6, ((0, -4), (1, 2), (3, 9)))
 SHORT = (2, ((0, 1),))
 OF_TWO = (plus, lesser, greater)
-
-
-class OfLines(Refusing):
-    """A test of functions that refuse what is no line ahead of all else."""
-
-    def no_line_first(self, call, *rest):
-        """Each thing that is no line is refused with NoLine, whatever else is handed in."""
-        for thing in no_lines():
-            with self.subTest(thing=repr(thing), rest=repr(rest)):
-                self.refused(NoLine, call, thing, *rest)
-
-    def no_line_second(self, call, line):
-        """The same of the second thing that is handed in."""
-        for thing in no_lines():
-            with self.subTest(line=repr(line), thing=repr(thing)):
-                self.refused(NoLine, call, line, thing)
+ARGUMENTS = {
+    "plus": ["one", "other"],
+    "lesser": ["one", "other"],
+    "greater": ["one", "other"],
+    "times": ["line", "many"],
+    "put_in": ["outer", "inner"],
+    "behind": ["one", "other"],
+    "cut": ["line", "first", "last"],
+    "mirrored": ["line"],
+}
 
 
 def alike(lists):
@@ -37,12 +30,7 @@ def alike(lists):
 
 class InterfaceTest(unittest.TestCase):
     def test_names_and_arguments(self):
-        two = ["one", "other"]
-        for name, arguments in (("plus", two), ("lesser", two), ("greater", two), ("times", ["line", "many"]),
-                                ("put_in", ["outer", "inner"]), ("behind", two), ("cut", ["line", "first", "last"]),
-                                ("mirrored", ["line"])):
-            with self.subTest(name):
-                self.assertEqual(list(inspect.signature(getattr(joining, name)).parameters), arguments)
+        self.assertEqual(arguments(joining, ARGUMENTS), ARGUMENTS)
 
 
 class OfTwoTest(OfLines):
@@ -316,12 +304,7 @@ class NothingIsChangedTest(OfLines):
     def test_answers_are_tuples_throughout(self):
         for line in (plus(LINE, OTHER), lesser(LINE, OTHER), greater(LINE, OTHER), times(LINE, 7),
                      put_in(LINE, (2, ((0, 5), (1, 0)))), behind(LINE, OTHER), cut(LINE, 1, 3), mirrored(LINE)):
-            self.assertIs(line.__class__, tuple)
-            self.assertIs(line[0].__class__, int)
-            self.assertIs(line[1].__class__, tuple)
-            for step in line[1]:
-                self.assertIs(step.__class__, tuple)
-                self.assertEqual([number.__class__ for number in step], [int, int])
+            self.plain_line(line)
 
 
 if __name__ == "__main__":

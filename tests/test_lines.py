@@ -1,17 +1,17 @@
 """[1] and [2]: lines, the lists of their values, and rows."""
 
 import copy
-import inspect
 import unittest
 
 from stepline import lines
 from stepline.errors import NoLine, NoPlace, NoRows
 from stepline.lines import formed, plain, told, value
-from tests.things import (Refusing, line_by_places, long_lists, no_lengths, no_lines, no_numbers, no_pairs, no_places,
-                          no_values, short_lists)
+from tests.things import (Refusing, arguments, line_by_places, long_lists, no_lengths, no_lines, no_numbers, no_pairs,
+                          no_places, no_values, short_lists)
 
 LINE = (6, ((0, 4), (2, -3), (5, 0)))
 VALUES = [4, 4, -3, -3, -3, 0]
+ARGUMENTS = {"plain": ["line"], "told": ["values"], "formed": ["long", "rows"], "value": ["line", "place"]}
 
 
 def values_of_rows(long, rows):
@@ -25,10 +25,7 @@ def values_of_rows(long, rows):
 
 class InterfaceTest(unittest.TestCase):
     def test_names_and_arguments(self):
-        for name, arguments in (("plain", ["line"]), ("told", ["values"]), ("formed", ["long", "rows"]),
-                                ("value", ["line", "place"])):
-            with self.subTest(name):
-                self.assertEqual(list(inspect.signature(getattr(lines, name)).parameters), arguments)
+        self.assertEqual(arguments(lines, ARGUMENTS), ARGUMENTS)
 
 
 class PlainTest(Refusing):

@@ -1,7 +1,11 @@
 """Things that the tests hand in: lines, and what is none."""
 
+import copy
+import inspect
 import itertools
 import unittest
+
+from stepline.errors import NoLine
 
 
 class Strange:
@@ -21,6 +25,56 @@ class Refusing(unittest.TestCase):
         with self.assertRaises(error) as caught:
             call(*things)
         self.assertIs(caught.exception.__class__, error)
+
+
+class OfLines(Refusing):
+    """A test of functions that refuse what is no line ahead of all else."""
+
+    def no_line_first(self, call, *rest):
+        """Each thing that is no line is refused with NoLine, whatever else is handed in."""
+        for thing in no_lines():
+            with self.subTest(thing=repr(thing), rest=repr(rest)):
+                self.refused(NoLine, call, thing, *rest)
+
+    def no_line_second(self, call, line):
+        """The same of the second thing that is handed in."""
+        for thing in no_lines():
+            with self.subTest(line=repr(line), thing=repr(thing)):
+                self.refused(NoLine, call, line, thing)
+
+    def same_each_time(self, call, *things):
+        """Equal things give equal answers, whose lists are new ones; what is handed in is as it was."""
+        before = copy.deepcopy(things)
+        first = call(*things)
+        second = call(*things)
+        kept = copy.deepcopy(first)
+        self.assertEqual(second, kept)
+        for told in lists_in(first):
+            told.append("another thing")
+        self.assertEqual(second, kept)
+        self.assertEqual(call(*things), kept)
+        self.assertEqual(call(*before), kept)
+        self.assertEqual(things, before)
+
+    def plain_line(self, line):
+        """A line is of tuples and whole numbers throughout."""
+        self.assertIs(line.__class__, tuple)
+        self.assertIs(line[0].__class__, int)
+        self.assertIs(line[1].__class__, tuple)
+        for step in line[1]:
+            self.assertIs(step.__class__, tuple)
+            self.assertEqual([number.__class__ for number in step], [int, int])
+
+
+def lists_in(thing):
+    """The lists that an answer is, or has directly in it."""
+    things = [thing, *thing] if isinstance(thing, (list, tuple)) else [thing]
+    return [one for one in things if isinstance(one, list)]
+
+
+def arguments(module, names):
+    """The names of the arguments of some functions of a module, by the functions' names."""
+    return {name: list(inspect.signature(getattr(module, name)).parameters) for name in names}
 
 
 def no_numbers():
@@ -106,3 +160,17 @@ def long_lists():
         [(place * 389 + 17) % 1999 - 999 for place in range(60)],
         [(place * 7 + 3) % 13 // 4 for place in range(45)],
     ]
+
+
+def mixed_lists():
+    """Lists of values of each length, far from one another and near, in no order that is easy to see."""
+    lists = []
+    state = 12345
+    for long in range(1, 61):
+        reach = (1, 3, 9, 60, 400, 999)[long % 6]
+        values = []
+        for place in range(long):
+            state = (state * 1103515245 + 12345) % 2 ** 31
+            values.append((state >> 12) % (2 * reach + 1) - reach)
+        lists.append(values)
+    return lists
