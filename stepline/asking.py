@@ -2,7 +2,7 @@
 
 from stepline.checks import need_line, need_place, need_stretch, need_value
 from stepline.joining import paired
-from stepline.lines import line_of, plain
+from stepline.lines import level_stretches, line_of, plain
 
 
 def stretch_values(line, first, last):
@@ -41,13 +41,7 @@ def first_from(line, place, value):
 
 def held_stretches(held):
     """The stretches, as long as can be, of places at which a list has True."""
-    found = []
-    for place, holds in enumerate(held):
-        if holds and place > 0 and held[place - 1]:
-            found[-1] = (found[-1][0], place)
-        elif holds:
-            found.append((place, place))
-    return found
+    return [(first, last) for first, last, holds in level_stretches(held) if holds]
 
 
 def stretches(line, low, high):

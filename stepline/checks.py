@@ -91,6 +91,12 @@ def need_number(thing, least, greatest):
         raise NoNumber(f"this is no whole number from {least} to {greatest}")
 
 
+def need_length(thing):
+    """Refuse what no line has as its length."""
+    if not is_length(thing):
+        raise NoPlace("a line has 1 to 60 places")
+
+
 def need_place(thing, long):
     """Refuse what is no place of a line of a length."""
     if not is_place(thing, long):

@@ -1,16 +1,23 @@
 """Lines, the lists of their values, and the rows that form them."""
 
-from stepline.checks import MOST_PLACES, are_rows, are_values, is_length, is_value, need_line, need_place
-from stepline.errors import NoPlace, NoRows, TooGreat
+from stepline.checks import MOST_PLACES, are_rows, are_values, is_value, need_length, need_line, need_place
+from stepline.errors import NoRows, TooGreat
+
+
+def level_stretches(things):
+    """The stretches of a list that have one thing, as long as can be, as tuples (first, last, thing)."""
+    found = []
+    for place, thing in enumerate(things):
+        if found and found[-1][2] == thing:
+            found[-1] = (found[-1][0], place, thing)
+        else:
+            found.append((place, place, thing))
+    return found
 
 
 def line_of(values):
     """The line of a list that is known to be one of 1 to 60 values."""
-    steps = []
-    for place, worth in enumerate(values):
-        if not steps or steps[-1][1] != worth:
-            steps.append((place, worth))
-    return (len(values), tuple(steps))
+    return (len(values), tuple((first, worth) for first, last, worth in level_stretches(values)))
 
 
 def fitted(values):
@@ -42,8 +49,7 @@ def told(values):
 
 def formed(long, rows):
     """The line of a length that is formed of rows."""
-    if not is_length(long):
-        raise NoPlace("a line has 1 to 60 places")
+    need_length(long)
     if not are_rows(rows, long):
         raise NoRows("this is no list of up to 60 rows of places of the line and values")
     starts = {}

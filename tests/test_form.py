@@ -8,7 +8,8 @@ import unittest
 
 FOLDER = pathlib.Path(__file__).resolve().parent.parent / "stepline"
 FILES = sorted(FOLDER.glob("*.py"))
-NAMED_FILES = ["__init__.py", "asking.py", "errors.py", "joining.py", "lines.py", "nearing.py", "turning.py"]
+NAMED_FILES = ["__init__.py", "adding.py", "asking.py", "errors.py", "hills.py", "joining.py", "lines.py", "nearing.py",
+               "tracks.py", "turning.py"]
 
 BUILTINS = set("""len range enumerate zip min max sum abs sorted reversed int str bool bytes list tuple dict set
 frozenset isinstance ord repr any all divmod Exception ValueError TypeError KeyError IndexError LookupError
@@ -18,6 +19,16 @@ BARRED_WORDS = set("""type typing typing_extensions enum Enum IntEnum StrEnum Fl
 namedtuple NamedTuple TypedDict TYPE_CHECKING abstractmethod""".split())
 
 BARRED_NODES = (ast.Global, ast.AsyncFunctionDef, ast.AsyncFor, ast.AsyncWith, ast.Await, ast.Import, ast.Div)
+
+# Methods of builtin values that the package may call (L25), as far as it is likely to.
+BUILTIN_METHODS = set("""append clear copy count endswith extend find get index insert isalnum isalpha isdigit islower
+isspace isupper items join keys ljust lower lstrip partition pop remove replace reverse rfind rjust rpartition rsplit
+rstrip setdefault split splitlines startswith strip update upper values zfill bit_length removeprefix removesuffix
+isascii isdecimal""".split())
+
+# What is iterated on the spot (L23), and the calls that may stand around it.
+PASSING = {"zip", "enumerate", "reversed", "range", "items", "keys", "values"}
+ITERATING = {"list", "tuple", "dict", "sorted", "sum", "any", "all", "enumerate", "zip", "min", "max", "join"}
 
 TOP_NODES = (ast.ImportFrom, ast.FunctionDef, ast.ClassDef, ast.Assign)
 
@@ -52,6 +63,34 @@ def top_names(tree):
         if isinstance(node, ast.Assign):
             names.extend(target.id for target in node.targets)
     return names
+
+
+def called_name(node):
+    """The name of the function or the method that a call calls."""
+    if isinstance(node, ast.Call):
+        return node.func.id if isinstance(node.func, ast.Name) else getattr(node.func, "attr", None)
+    return None
+
+
+def own_methods():
+    return {node.name for file in FILES for part in ast.walk(tree_of(file)) if isinstance(part, ast.ClassDef)
+            for node in part.body if isinstance(node, ast.FunctionDef)}
+
+
+def own_errors():
+    return {node.name for node in ast.walk(tree_of(FOLDER / "errors.py")) if isinstance(node, ast.ClassDef)}
+
+
+def not_iterated_at_once(tree):
+    """The rows of a file's calls that are to be iterated on the spot, and are not."""
+    passing = {id(node): node.lineno for node in ast.walk(tree) if called_name(node) in PASSING}
+    for node in ast.walk(tree):
+        if isinstance(node, (ast.For, ast.comprehension)):
+            passing.pop(id(node.iter), None)
+        elif called_name(node) in ITERATING:
+            for argument in node.args:
+                passing.pop(id(argument), None)
+    return sorted(passing.values())
 
 
 class FormTest(unittest.TestCase):
@@ -113,6 +152,51 @@ class FormTest(unittest.TestCase):
                 for name in names:
                     self.assertRegex(name, r"^(__[a-z]+__|[a-zA-Z][a-zA-Z0-9_]*)$")
                 self.assertEqual(set(names) & known, set())
+
+    def test_is_is_asked_of_none_true_and_false_only(self):
+        for file in FILES:
+            with self.subTest(file.name):
+                for node in ast.walk(tree_of(file)):
+                    if isinstance(node, ast.Compare) and any(isinstance(op, (ast.Is, ast.IsNot)) for op in node.ops):
+                        self.assertEqual(len(node.ops), 1)
+                        self.assertIn(ast.unparse(node.comparators[0]), ("None", "True", "False"))
+
+    def test_methods_that_are_called(self):
+        known = BUILTIN_METHODS | own_methods()
+        for file in FILES:
+            with self.subTest(file.name):
+                for node in ast.walk(tree_of(file)):
+                    if isinstance(node, ast.Call) and isinstance(node.func, ast.Attribute):
+                        self.assertIn(node.func.attr, known)
+
+    def test_no_name_is_a_method_and_an_attribute(self):
+        for file in FILES:
+            with self.subTest(file.name):
+                stored = {node.attr for node in ast.walk(tree_of(file))
+                          if isinstance(node, ast.Attribute) and isinstance(node.ctx, ast.Store)}
+                self.assertEqual(stored & (own_methods() | BUILTIN_METHODS), set())
+
+    def test_iterated_at_once(self):
+        for file in FILES:
+            with self.subTest(file.name):
+                self.assertEqual(not_iterated_at_once(tree_of(file)), [])
+
+    def test_errors_are_made_on_the_spot_and_caught_by_name(self):
+        errors = own_errors()
+        for file in FILES:
+            with self.subTest(file.name):
+                for node in ast.walk(tree_of(file)):
+                    if isinstance(node, ast.Raise):
+                        self.assertIn(called_name(node.exc), errors)
+                    elif isinstance(node, ast.ExceptHandler):
+                        self.assertIn(ast.unparse(node.type), errors)
+
+    def test_powers_have_a_literal_exponent(self):
+        for file in FILES:
+            with self.subTest(file.name):
+                for node in ast.walk(tree_of(file)):
+                    if isinstance(node, ast.BinOp) and isinstance(node.op, ast.Pow):
+                        self.assertIsInstance(node.right, ast.Constant)
 
     def test_builtins(self):
         known = set(dir(builtins))
