@@ -8,8 +8,8 @@ import unittest
 
 FOLDER = pathlib.Path(__file__).resolve().parent.parent / "stepline"
 FILES = sorted(FOLDER.glob("*.py"))
-NAMED_FILES = ["__init__.py", "adding.py", "asking.py", "errors.py", "hills.py", "joining.py", "lines.py", "nearing.py",
-               "tracks.py", "turning.py"]
+NAMED_FILES = ["__init__.py", "adding.py", "asking.py", "comparing.py", "counting.py", "errors.py", "hills.py",
+               "joining.py", "lines.py", "linetexts.py", "nearing.py", "tracks.py", "turning.py", "windows.py"]
 
 BUILTINS = set("""len range enumerate zip min max sum abs sorted reversed int str bool bytes list tuple dict set
 frozenset isinstance ord repr any all divmod Exception ValueError TypeError KeyError IndexError LookupError

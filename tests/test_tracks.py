@@ -503,6 +503,7 @@ class DoTest(Refusing):
             for worth in no_values():
                 self.assertEqual(do(track, (word, 0, 5, worth)), "refused")
             self.assertEqual(do(track, (word, 3, 2, 1)), "refused")
+            self.assertEqual(do(track, (word, 0, 5, "undo")), "refused")
         self.assertEqual(do(track, ("add", 0, 5, 995)), "refused")
         self.assertEqual(track.saved(), saved)
         self.assertIsNone(do(track, ("undo",)))
